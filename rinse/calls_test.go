@@ -76,6 +76,8 @@ func TestP1NothingGoesOn(t *testing.T) {
 	for range 100 {
 		Tokens("a{b:c}")
 		Tokens(strings.Repeat("a", api.MaxSheet+1))
+		Matches("p:not(.x) > b", family(), 5)
+		Matches("p,", family(), 5)
 	}
 	if after := runtime.NumGoroutine(); after > before {
 		t.Errorf("P1: %d goroutines ahead, %d behind", before, after)
@@ -84,10 +86,120 @@ func TestP1NothingGoesOn(t *testing.T) {
 
 func TestP1NoListsAtAll(t *testing.T) {
 	for _, elem := range []int{-1 << 63, -1, 0, 1, 1<<63 - 1} {
-		Matches("", nil, elem)
+		if matches, errno := Matches("p", nil, elem); matches || errno != api.ErrPage {
+			t.Errorf("P1: Matches(.., nil, %d) = %v, %d", elem, matches, errno)
+		}
 		Computed(nil, nil, elem, "")
 	}
 	Rinse("", api.Policy{})
+}
+
+// selectorPieces are what the rules of selectors speak of, and what they do not.
+var selectorPieces = []string{
+	"p", "*", ".x", "#a", ".", "#", ":", ",", " ", ">", "+", "~", "[k]", "[k", "=", "'v'", "]", ")", "(", "{",
+	":root", ":empty", ":not(", ":is(", ":nth-child(", "2", "odd", "1000", "/**/", "\\", "\x80", "\x00", "\n", "\"", "@a", "<!--", "url(",
+}
+
+func TestP1MatchesOfAnything(t *testing.T) {
+	page := family()
+	var all []string
+	for _, a := range selectorPieces {
+		for _, b := range selectorPieces {
+			for _, c := range selectorPieces {
+				all = append(all, a+b+c)
+			}
+		}
+	}
+	for _, s := range all {
+		for _, elem := range []int{0, 3, 8} {
+			matches, errno := Matches(s, page, elem)
+			if errno != api.OK && (matches || errno != api.ErrSelector) {
+				t.Errorf("P1: Matches(%q, .., %d) = %v, %d", s, elem, matches, errno)
+			}
+			if again, errnoAgain := Matches(s, page, elem); again != matches || errnoAgain != errno {
+				t.Errorf("P1: Matches(%q, .., %d) = %v, %d, then %v, %d", s, elem, matches, errno, again, errnoAgain)
+			}
+		}
+	}
+}
+
+func TestP1MatchesAnyByte(t *testing.T) {
+	for c := range 256 {
+		for _, frame := range [][2]string{{"", ""}, {"p", ""}, {"p", "p"}, {"[k", "=v]"}, {":not(", ")"}, {":", "root"}, {"p,", ",b"}} {
+			s := frame[0] + string([]byte{byte(c)}) + frame[1]
+			if matches, errno := Matches(s, family(), 3); errno != api.OK && (matches || errno != api.ErrSelector) {
+				t.Errorf("P1: Matches(%q) = %v, %d", s, matches, errno)
+			}
+		}
+	}
+}
+
+// A chain of elements can stand for a row of compounds in very many ways: all the same the call ends soon.
+func TestP1MatchesEnds(t *testing.T) {
+	page := []api.Elem{{Parent: -1, Tag: "p"}}
+	for len(page) < api.MaxElems {
+		page = append(page, api.Elem{Parent: len(page) - 1, Tag: "p"})
+	}
+	row := func(compounds int) string { return strings.TrimSpace(strings.Repeat("p ", compounds)) }
+	last := api.MaxElems - 1
+	for _, c := range []struct {
+		selector string
+		want     bool
+	}{
+		{row(api.MaxElems), true},
+		{row(api.MaxElems + 1), false},
+		{row(api.MaxTest / 2), false},
+		{row(api.MaxElems-1) + " b", false},
+		{"b " + row(api.MaxElems-1), false},
+		{"p:not(p " + row(api.MaxElems) + ")", true},
+	} {
+		if matches, errno := Matches(c.selector, page, last); matches != c.want || errno != api.OK {
+			t.Errorf("P4: Matches(%q) = %v, %d", c.selector, matches, errno)
+		}
+	}
+}
+
+// roomy gives a page whose lists all have spare room, with something in it.
+func roomy() []api.Elem {
+	page := append(make([]api.Elem, 0, 2*api.MaxElems), family()...)
+	for i := range page {
+		classes := append(make([]string, 0, 8), page[i].Classes...)
+		attrs := append(make([]api.Attr, 0, 8), page[i].Attrs...)
+		fill(classes, "spare")
+		fill(attrs, api.Attr{Name: "spare", Value: "spare"})
+		page[i].Classes, page[i].Attrs = classes, attrs
+	}
+	fill(page, api.Elem{Parent: 7, Tag: "spare"})
+	return page
+}
+
+func fill[T any](list []T, with T) {
+	for i := len(list); i < cap(list); i++ {
+		list[:cap(list)][i] = with
+	}
+}
+
+func TestP2MatchesWritesNothing(t *testing.T) {
+	page, want := roomy(), roomy()
+	for _, s := range []string{"p", ".x", "[k~=w]", "p:not(.y, [k]) ~ b > p", ":nth-child(odd):last-child", "p,", strings.Repeat("p", api.MaxTest+1)} {
+		for elem := -1; elem <= len(page); elem++ {
+			Matches(s, page, elem)
+		}
+	}
+	page, want = page[:cap(page)], want[:cap(want)]
+	for i := range page {
+		if page[i].Parent != want[i].Parent || page[i].Tag != want[i].Tag || page[i].Id != want[i].Id {
+			t.Errorf("P2: element %d is %+v, was %+v", i, page[i], want[i])
+		}
+		if !sameRoom(page[i].Classes, want[i].Classes) || !sameRoom(page[i].Attrs, want[i].Attrs) {
+			t.Errorf("P2: the lists of element %d are %+v, were %+v", i, page[i], want[i])
+		}
+	}
+}
+
+// sameRoom compares two lists with their spare room.
+func sameRoom[T comparable](a, b []T) bool {
+	return len(a) == len(b) && slices.Equal(a[:cap(a)], b[:cap(b)])
 }
 
 func TestP2TokensAreNewMemory(t *testing.T) {
