@@ -78,6 +78,8 @@ func TestP1NothingGoesOn(t *testing.T) {
 		Tokens(strings.Repeat("a", api.MaxSheet+1))
 		Matches("p:not(.x) > b", family(), 5)
 		Matches("p,", family(), 5)
+		Computed(family(), []string{"p{--x:1;top:var(--x)}"}, 5, "top")
+		Computed(family(), []string{strings.Repeat("(", api.MaxSheet)}, 5, "top")
 	}
 	if after := runtime.NumGoroutine(); after > before {
 		t.Errorf("P1: %d goroutines ahead, %d behind", before, after)
@@ -89,7 +91,12 @@ func TestP1NoListsAtAll(t *testing.T) {
 		if matches, errno := Matches("p", nil, elem); matches || errno != api.ErrPage {
 			t.Errorf("P1: Matches(.., nil, %d) = %v, %d", elem, matches, errno)
 		}
-		Computed(nil, nil, elem, "")
+		if text, errno := Computed(nil, nil, elem, ""); text != "" || errno != api.ErrPage {
+			t.Errorf("P1: Computed(nil, nil, %d, ..) = %q, %d", elem, text, errno)
+		}
+	}
+	if text, errno := Computed(family(), nil, 5, "color"); text != "" || errno != api.OK {
+		t.Errorf("P1: Computed(.., nil, 5, ..) = %q, %d", text, errno)
 	}
 	Rinse("", api.Policy{})
 }
@@ -186,6 +193,12 @@ func TestP2MatchesWritesNothing(t *testing.T) {
 			Matches(s, page, elem)
 		}
 	}
+	checkSamePage(t, page, want)
+}
+
+// checkSamePage compares two pages with all their spare room.
+func checkSamePage(t *testing.T, page, want []api.Elem) {
+	t.Helper()
 	page, want = page[:cap(page)], want[:cap(want)]
 	for i := range page {
 		if page[i].Parent != want[i].Parent || page[i].Tag != want[i].Tag || page[i].Id != want[i].Id {

@@ -2,7 +2,11 @@
 package rinse
 
 import (
+	"slices"
+
 	"rinse/api"
+	"rinse/cascade"
+	"rinse/rules"
 	"rinse/scan"
 	"rinse/selectors"
 	"rinse/tree"
@@ -48,7 +52,39 @@ func readSelector(selector string) (selectors.List, bool) {
 
 // Computed tells what a property of an element comes to (P5).
 func Computed(page []api.Elem, sheets []string, elem int, property string) (string, api.Errno) {
-	return "", api.OK
+	whole, ok := tree.Of(page)
+	if !ok || !whole.Has(elem) {
+		return "", api.ErrPage
+	}
+	if areLong(sheets) || len(property) > api.MaxTest {
+		return "", api.ErrLong
+	}
+	read, ok := readSheets(sheets)
+	if !ok {
+		return "", api.ErrDeep
+	}
+	return cascade.Of(whole, read...).ComesTo(elem, rules.Property(property)), api.OK
+}
+
+// areLong tells whether there are too many sheets, or one is too long.
+func areLong(sheets []string) bool {
+	if len(sheets) > api.MaxSheets {
+		return true
+	}
+	return slices.ContainsFunc(sheets, func(sheet string) bool { return len(sheet) > api.MaxSheet })
+}
+
+// readSheets gives the rules of each sheet, if no block in one is too deep.
+func readSheets(sheets []string) ([][]rules.Rule, bool) {
+	var all [][]rules.Rule
+	for _, sheet := range sheets {
+		list, depth := values.Read(scan.Tokens(sheet))
+		if depth > api.MaxDepth {
+			return nil, false
+		}
+		all = append(all, rules.Read(list))
+	}
+	return all, true
 }
 
 // Rinse makes a sheet harmless (P6).

@@ -30,6 +30,8 @@ const (
 type Part interface {
 	// on gives the elements that have it.
 	on(page tree.Page) tree.Set
+	// weight is what it adds to its selector's weight.
+	weight() Weight
 }
 
 // On gives the elements that a list matches.

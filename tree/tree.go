@@ -31,6 +31,16 @@ func (p Page) Has(elem int) bool {
 	return 0 <= elem && elem < len(p.elems)
 }
 
+// Size is how many elements there are.
+func (p Page) Size() int {
+	return len(p.elems)
+}
+
+// Parent is the number of an element's parent, of the root -1.
+func (p Page) Parent(elem int) int {
+	return p.elems[elem].Parent
+}
+
 // Where is the elements that pass a test.
 func (p Page) Where(passes func(elem api.Elem) bool) Set {
 	return p.numbered(func(elem int) bool { return passes(p.elems[elem]) })

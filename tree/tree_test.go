@@ -62,6 +62,19 @@ func TestRelations(t *testing.T) {
 	}
 }
 
+func TestParent(t *testing.T) {
+	parents := []int{-1, 0, 0, 1, 0, 1, 3}
+	page := of(t, parents...)
+	if page.Size() != len(parents) {
+		t.Errorf("the size is %d", page.Size())
+	}
+	for elem, want := range parents {
+		if got := page.Parent(elem); got != want {
+			t.Errorf("the parent of %d is %d, want %d", elem, got, want)
+		}
+	}
+}
+
 func TestHas(t *testing.T) {
 	page := of(t, -1, 0)
 	for elem, want := range map[int]bool{-1 << 63: false, -1: false, 0: true, 1: true, 2: false, 64: false, 1<<63 - 1: false} {

@@ -1,7 +1,16 @@
 // Package values makes values of tokens: blocks with what stands in them, and tokens by themselves.
 package values
 
-import "rinse/api"
+import (
+	"slices"
+
+	"rinse/api"
+	"rinse/texts"
+)
+
+// Written is a kind that no token has: of a text, the word, that is written already, and stands
+// among values as an Ident does.
+const Written = -1
 
 // Value is a token. If it opens a block, Inside are the values in that block.
 type Value struct {
@@ -22,7 +31,7 @@ func Read(tokens <-chan api.Token) (list []Value, depth int) {
 	open := []block{{}}
 	for token := range tokens {
 		last := len(open) - 1
-		switch closer := closerOf(token); {
+		switch closer := Closer(token); {
 		case closer != "":
 			open = append(open, block{opener: token, closer: closer})
 			depth = max(depth, last+1)
@@ -47,8 +56,8 @@ func closeLast(open []block) []block {
 	return open
 }
 
-// closerOf gives the sign that closes the block which a token opens, nothing if it opens none.
-func closerOf(token api.Token) string {
+// Closer gives the sign that closes the block which a token opens, nothing if it opens none.
+func Closer(token api.Token) string {
 	switch {
 	case token.Kind == api.Function:
 		return ")"
@@ -67,6 +76,11 @@ func closerOf(token api.Token) string {
 // IsSign tells whether a value is this sign. An opening one is a block.
 func (v Value) IsSign(sign string) bool {
 	return v.Kind == api.Sign && v.Word == sign
+}
+
+// IsWord tells whether a value is this Ident, in letters of any case. The word is told in small ones.
+func (v Value) IsWord(word string) bool {
+	return v.Kind == api.Ident && texts.Small(v.Word) == word
 }
 
 // Trim leaves out the Blanks at the beginning and the end of values.
@@ -91,4 +105,15 @@ func Split(list []Value, sign string) [][]Value {
 		}
 	}
 	return append(parts, list[begin:])
+}
+
+// Cut parts values at the first one that is one of these signs. If there is none, it stops at an
+// empty value, which is of no kind.
+func Cut(list []Value, signs ...string) (ahead []Value, stop Value, behind []Value) {
+	for i, v := range list {
+		if v.Kind == api.Sign && slices.Contains(signs, v.Word) {
+			return list[:i], v, list[i+1:]
+		}
+	}
+	return list, Value{}, nil
 }

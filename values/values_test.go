@@ -15,7 +15,7 @@ func shape(list []Value) string {
 		switch {
 		case v.Kind == api.Blank:
 			told += "_"
-		case closerOf(v.Token) != "":
+		case Closer(v.Token) != "":
 			told += v.Word + "<" + shape(v.Inside) + ">"
 		default:
 			told += v.Word
@@ -73,6 +73,37 @@ func TestTrimAndSplit(t *testing.T) {
 		}
 		if got := strings.Join(parts, "|"); got != c.want {
 			t.Errorf("%q: %q, want %q", c.text, got, c.want)
+		}
+	}
+}
+
+func TestCut(t *testing.T) {
+	for _, c := range []struct{ text, ahead, stop, behind string }{
+		{"", "", "", ""},
+		{"a", "a", "", ""},
+		{"a;b;c", "a", ";", "b;c"},
+		{";", "", ";", ""},
+		{"a{b;c}d;e", "a", "{", "d;e"},
+		{"(a;b{c})d", "(<a;b{<c>>d", "", ""},
+		{"';'a};b", ";a}", ";", "b"},
+		{"#a @a a 1a", "a_a_a_1", "", ""},
+	} {
+		list, _ := Read(scan.Tokens(c.text))
+		ahead, stop, behind := Cut(list, ";", "{")
+		if shape(ahead) != c.ahead || stop.Word != c.stop || shape(behind) != c.behind {
+			t.Errorf("Cut(%q) = %q, %q, %q", c.text, shape(ahead), stop.Word, shape(behind))
+		}
+		if (stop.Kind == api.Sign) != (c.stop != "") || shape(stop.Inside) != "" && c.stop != "{" {
+			t.Errorf("Cut(%q) stops at %+v", c.text, stop)
+		}
+	}
+}
+
+func TestIsWord(t *testing.T) {
+	for text, want := range map[string]bool{"word": true, "WoRD": true, "w\\6frd": true, "words": false, "'word'": false, "#word": false, "word()": false, "@word": false, "url(word)": false} {
+		list, _ := Read(scan.Tokens(text))
+		if got := list[0].IsWord("word"); got != want {
+			t.Errorf("%q is the word: %v", text, got)
 		}
 	}
 }
