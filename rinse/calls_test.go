@@ -80,6 +80,8 @@ func TestP1NothingGoesOn(t *testing.T) {
 		Matches("p,", family(), 5)
 		Computed(family(), []string{"p{--x:1;top:var(--x)}"}, 5, "top")
 		Computed(family(), []string{strings.Repeat("(", api.MaxSheet)}, 5, "top")
+		Rinse("p{color:red}", strict())
+		Rinse(strings.Repeat("(", api.MaxSheet), strict())
 	}
 	if after := runtime.NumGoroutine(); after > before {
 		t.Errorf("P1: %d goroutines ahead, %d behind", before, after)
@@ -98,7 +100,9 @@ func TestP1NoListsAtAll(t *testing.T) {
 	if text, errno := Computed(family(), nil, 5, "color"); text != "" || errno != api.OK {
 		t.Errorf("P1: Computed(.., nil, 5, ..) = %q, %d", text, errno)
 	}
-	Rinse("", api.Policy{})
+	if text, errno := Rinse("p{color:red}", api.Policy{}); text != "" || errno != api.OK {
+		t.Errorf("P1: Rinse of a policy without lists = %q, %d", text, errno)
+	}
 }
 
 // selectorPieces are what the rules of selectors speak of, and what they do not.

@@ -6,11 +6,13 @@ import (
 
 	"rinse/api"
 	"rinse/cascade"
+	"rinse/policy"
 	"rinse/rules"
 	"rinse/scan"
 	"rinse/selectors"
 	"rinse/tree"
 	"rinse/values"
+	"rinse/wash"
 )
 
 // Tokens gives a sheet's tokens (P3).
@@ -78,14 +80,36 @@ func areLong(sheets []string) bool {
 func readSheets(sheets []string) ([][]rules.Rule, bool) {
 	var all [][]rules.Rule
 	for _, sheet := range sheets {
-		list, depth := values.Read(scan.Tokens(sheet))
-		if depth > api.MaxDepth {
+		read, ok := readSheet(sheet)
+		if !ok {
 			return nil, false
 		}
-		all = append(all, rules.Read(list))
+		all = append(all, read)
 	}
 	return all, true
 }
 
+// readSheet gives the rules of a sheet, if no block in it is too deep.
+func readSheet(sheet string) ([]rules.Rule, bool) {
+	list, depth := values.Read(scan.Tokens(sheet))
+	if depth > api.MaxDepth {
+		return nil, false
+	}
+	return rules.Read(list), true
+}
+
 // Rinse makes a sheet harmless (P6).
-func Rinse(sheet string, p api.Policy) (string, api.Errno) { return "", api.OK }
+func Rinse(sheet string, p api.Policy) (string, api.Errno) {
+	checked, ok := policy.Of(p)
+	if !ok {
+		return "", api.ErrPolicy
+	}
+	if len(sheet) > api.MaxSheet {
+		return "", api.ErrLong
+	}
+	read, ok := readSheet(sheet)
+	if !ok {
+		return "", api.ErrDeep
+	}
+	return wash.Rules(checked, read), api.OK
+}

@@ -2,6 +2,8 @@
 package rules
 
 import (
+	"slices"
+
 	"rinse/api"
 	"rinse/values"
 )
@@ -15,11 +17,21 @@ type Rule struct {
 	Body    []values.Value
 }
 
-// Read gives the rules of a whole sheet.
+// Read gives the rules of a whole sheet, between which Open and Close are passed over.
 func Read(list []values.Value) []Rule {
+	return readAll(list, api.Blank, api.Open, api.Close)
+}
+
+// ReadBody gives the rules in an at-rule's body.
+func ReadBody(list []values.Value) []Rule {
+	return readAll(list, api.Blank)
+}
+
+// readAll gives rules, between which values of these kinds are passed over.
+func readAll(list []values.Value, passedOver ...int) []Rule {
 	var all []Rule
 	for len(list) > 0 {
-		if passedOver(list[0]) {
+		if slices.Contains(passedOver, list[0].Kind) {
 			list = list[1:]
 			continue
 		}
@@ -30,10 +42,6 @@ func Read(list []values.Value) []Rule {
 		}
 	}
 	return all
-}
-
-func passedOver(v values.Value) bool {
-	return v.Kind == api.Blank || v.Kind == api.Open || v.Kind == api.Close
 }
 
 // readRule gives the rule at the beginning of values, and what is left behind it.

@@ -63,6 +63,22 @@ func TestRead(t *testing.T) {
 	}
 }
 
+// In a body Open and Close are values like others; all else is as in a sheet.
+func TestReadBody(t *testing.T) {
+	for _, c := range []struct{ text, want string }{
+		{"", ""},
+		{" a{b} @c d{e} @f;", "<a>{b}|@c< d>{e}|@f<>|"},
+		{"a", ""},
+		{"<!-- a{b} c{d}", "<<!-- a>{b}|<c>{d}|"},
+		{"a{b}-->c{d}", "<a>{b}|<-->/**/c>{d}|"},
+		{"-->", ""},
+	} {
+		if got := told(ReadBody(read(c.text))); got != c.want {
+			t.Errorf("ReadBody(%q) = %q, want %q", c.text, got, c.want)
+		}
+	}
+}
+
 func TestDeclarations(t *testing.T) {
 	for _, c := range []struct{ text, want string }{
 		{"", ""},

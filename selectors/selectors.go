@@ -1,4 +1,4 @@
-// Package selectors reads selector lists, and tells which elements of a page they match.
+// Package selectors reads and writes selector lists, and tells which elements of a page they match.
 package selectors
 
 import "rinse/tree"
@@ -32,6 +32,8 @@ type Part interface {
 	on(page tree.Page) tree.Set
 	// weight is what it adds to its selector's weight.
 	weight() Weight
+	// written is how it stands in a sheet that is written anew.
+	written() string
 }
 
 // On gives the elements that a list matches.

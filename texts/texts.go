@@ -14,6 +14,18 @@ func Join(parts ...string) string {
 	return string(whole)
 }
 
+// JoinBy puts any number of texts together, with one between each two.
+func JoinBy(between string, parts ...string) string {
+	var all []string
+	for i, part := range parts {
+		if i > 0 {
+			all = append(all, between)
+		}
+		all = append(all, part)
+	}
+	return Join(all...)
+}
+
 // Small gives a text with `A` to `Z` in small letters. The library's own call reads runes,
 // and would change bytes above 127 that are none.
 func Small(text string) string {

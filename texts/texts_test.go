@@ -20,6 +20,25 @@ func TestJoin(t *testing.T) {
 	}
 }
 
+func TestJoinBy(t *testing.T) {
+	cases := []struct {
+		between string
+		parts   []string
+		want    string
+	}{
+		{",", nil, ""},
+		{",", []string{"a"}, "a"},
+		{",", []string{"a", "", "b"}, "a,,b"},
+		{"", []string{"a", "b"}, "ab"},
+		{", ", []string{"", ""}, ", "},
+	}
+	for _, c := range cases {
+		if got := JoinBy(c.between, c.parts...); got != c.want {
+			t.Errorf("JoinBy(%q, %q) = %q, want %q", c.between, c.parts, got, c.want)
+		}
+	}
+}
+
 func TestJoinLeavesItsPartsAlone(t *testing.T) {
 	parts := make([]string, 2, 3)
 	parts[0], parts[1] = "a", "b"
